@@ -1,0 +1,1 @@
+"""Mendsontime: letters told again in time through losses."""
