@@ -117,8 +117,8 @@ class Field:
         check_element(a, self._size, "a")
         check_element(b, self._size, "b")
 
-    def __contains__(self, value):
-        return is_whole(value, 0, self._size - 1)
+    def __contains__(self, x):
+        return is_whole(x, 0, self._size - 1)
 
     def __iter__(self):
         return iter(self._all)

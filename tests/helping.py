@@ -18,9 +18,9 @@ for _ in range(19):
 
 # Papers of every kind that point 8 allows.
 ODD_PAPERS = (
-    True, False, None, 0, 1, -1, 10 ** 40, "", "factors", "x" * 300, (), (0,), (None,), ((), ()), [None], [True], [False],
-    ["0"], [()], [(0,)], [[]], [[], []], [[0]], [[True]], [[None]], [["a"]], [-1], [99], [0, True], [0, None], [0, "1"],
-    ("factors", [0]), [("code", [])], NESTED, [0] * 5000, [[0] * 300] * 300, (NESTED, None),
+    True, False, None, 0, 1, -1, 10 ** 40, "", "factors", "x" * 300, (), (0,), (None,), ((), ()), [None], [True],
+    [False], ["0"], [()], [(0,)], [[]], [[], []], [[0]], [[True]], [[None]], [["a"]], [-1], [99], [0, True], [0, None],
+    [0, "1"], ("factors", [0]), [("code", [])], NESTED, [0] * 5000, [[0] * 300] * 300, (NESTED, None),
 )
 
 

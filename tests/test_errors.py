@@ -8,7 +8,6 @@ from mendsontime.errors import (
 
 from helping import (
     NO_LISTS, bad_elements, bad_matrices, bad_numbers, bad_patterns, bad_rows, check_answer, check_call, check_error,
-    check_errors,
 )
 
 
@@ -135,11 +134,10 @@ class Checks(unittest.TestCase):
 
     def test_rows_of_an_answer_are_new_also_if_one_row_stands_twice(self):
         row = [0, 1]
-        copied = check_answer(self, check_matrix, {"rows": [row, row], "size": 2, "high": 2, "width": 2, "argument": "r"})
-        self.assertEqual(copied, [[0, 1], [0, 1]])
-        copied = check_answer(self, check_heard, {"heard": [row, row], "size": 2, "most": 2, "width": 2, "argument": "r"})
-        self.assertEqual(copied, [[0, 1], [0, 1]])
-        check_errors(self, check_row, {"row": row, "size": 2, "length": 2, "argument": "r"}, {})
+        good = {"rows": [row, row], "size": 2, "high": 2, "width": 2, "argument": "rows"}
+        self.assertEqual(check_answer(self, check_matrix, good), [[0, 1], [0, 1]])
+        good = {"heard": [row, row], "size": 2, "most": 2, "width": 2, "argument": "heard"}
+        self.assertEqual(check_answer(self, check_heard, good), [[0, 1], [0, 1]])
 
 
 if __name__ == "__main__":

@@ -11,7 +11,9 @@ BUILTINS = {
     "tuple", "dict", "set", "isinstance", "ord", "repr", "any", "all", "divmod", "iter", "type", "map", "property",
 }
 LIBRARY = {"itertools": {"combinations", "product", "permutations"}, "math": {"gcd", "lcm"}}
-BARRED_WORDS = {"register", "mro", "elements", "open", "input", "law", "eval", "exec", "compile", "id", "vars", "globals"}
+BARRED_WORDS = {
+    "register", "mro", "elements", "open", "input", "law", "eval", "exec", "compile", "id", "vars", "globals",
+}
 BARRED_NODES = (
     ast.AsyncFunctionDef, ast.Global, ast.GeneratorExp, ast.Div, ast.Await, ast.Yield, ast.YieldFrom, ast.Import,
 )

@@ -1,0 +1,139 @@
+"""The names and arguments of the interface, as the document writes them."""
+
+import importlib
+import inspect
+import unittest
+
+FUNCTIONS = {
+    "errors": {
+        "check_number": "(value, low, high, argument)",
+        "check_element": "(value, size, argument)",
+        "check_row": "(row, size, length, argument)",
+        "check_matrix": "(rows, size, high, width, argument, *, exact=True)",
+        "check_pattern": "(pattern, most, argument, *, exact=False)",
+        "check_heard": "(heard, size, most, width, argument)",
+    },
+    "field": {"generator": "(field)"},
+    "poly": {
+        "monic": "(poly)",
+        "common_divisor": "(a, b)",
+        "poly_through": "(field, points)",
+        "is_irreducible": "(poly)",
+        "told_poly": "(size)",
+    },
+    "rows": {
+        "zero_rows": "(high, width)",
+        "unit_rows": "(size)",
+        "row_plus": "(field, a, b)",
+        "row_times": "(field, factor, a)",
+        "product_sum": "(field, a, b)",
+        "combine": "(field, width, rows, factors)",
+        "product_rows": "(field, inner, width, a, b)",
+        "turned": "(width, rows)",
+        "beside": "(a, b)",
+    },
+    "solve": {
+        "reduced": "(field, width, rows)",
+        "pivots": "(field, width, rows)",
+        "rank_of": "(field, width, rows)",
+        "base_places": "(field, width, rows)",
+        "null_rows": "(field, width, rows)",
+        "factors_for": "(field, width, rows, goal)",
+        "barrier_for": "(field, width, rows, goal)",
+        "solve_or_bar": "(field, width, rows, goal)",
+        "dependence": "(field, width, rows)",
+        "is_factors": "(field, width, rows, goal, paper)",
+        "is_barrier": "(field, width, rows, goal, paper)",
+        "is_dependence": "(field, width, rows, paper)",
+    },
+    "block": {
+        "encode_block": "(field, width, rows, letters)",
+        "block_words": "(field, width, rows)",
+        "least_weight": "(field, width, rows)",
+        "solving_rows": "(field, width, rows, pattern)",
+        "mends_block": "(field, width, rows, pattern)",
+        "is_solving": "(field, width, rows, pattern, paper)",
+        "has_greatest_distance": "(field, width, rows)",
+        "mends_runs": "(field, width, rows, run)",
+        "ring_checks": "(letters, checks)",
+        "ring_rows": "(letters, checks)",
+        "ring_trail": "(letters, checks)",
+    },
+    "cauchy": {
+        "cauchy_checks": "(field, letters, checks)",
+        "cauchy_rows": "(field, letters, checks)",
+        "points_rows": "(field, letters, width)",
+        "points_solve": "(field, letters, signs, pattern)",
+    },
+    "patterns": {
+        "stretches": "(pattern)",
+        "gaps": "(pattern)",
+        "heard_beats": "(pattern)",
+        "lost_beats": "(pattern)",
+        "round_pattern": "(lost, heard, beats)",
+        "pattern_text": "(pattern)",
+        "read_pattern": "(text)",
+    },
+}
+
+CLASSES = {
+    "errors": {
+        "BadNumber": {"__init__": "(self, argument)"},
+        "BadShape": {"__init__": "(self, argument)"},
+        "BadElement": {"__init__": "(self, argument)"},
+        "BadText": {"__init__": "(self, line)"},
+        "TooLarge": {"__init__": "(self, bound)"},
+        "Clash": {"__init__": "(self, moment)"},
+    },
+    "field": {
+        "Field": {
+            "__init__": "(self, size)", "plus": "(self, a, b)", "minus": "(self, a, b)", "times": "(self, a, b)",
+            "over": "(self, a, b)", "negated": "(self, a)", "inverse": "(self, a)", "raised": "(self, a, exponent)",
+            "order_of": "(self, a)", "digits": "(self, a)", "from_digits": "(self, digits)", "told_parts": "(self)",
+            "__contains__": None, "__iter__": None, "__eq__": None, "size": "property", "prime": "property",
+            "power": "property",
+        },
+    },
+    "poly": {
+        "Poly": {
+            "__init__": "(self, field, parts)", "__call__": "(self, x)", "field": "property", "degree": "property",
+            "parts": "property", "__add__": None, "__sub__": None, "__mul__": None, "__floordiv__": None,
+            "__mod__": None, "__neg__": None, "__eq__": None,
+        },
+    },
+    "solve": {
+        "System": {
+            "__init__": "(self, field, width)", "learn": "(self, row, value)", "value_of": "(self, goal)",
+            "__contains__": None, "rank": "property", "facts": "(self)",
+        },
+    },
+}
+
+
+class Interface(unittest.TestCase):
+    def test_functions(self):
+        for name, functions in FUNCTIONS.items():
+            module = importlib.import_module("mendsontime." + name)
+            for function, arguments in functions.items():
+                with self.subTest(module=name, function=function):
+                    made = getattr(module, function)
+                    self.assertEqual(made.__module__, module.__name__)
+                    self.assertEqual(str(inspect.signature(made)), arguments)
+
+    def test_classes(self):
+        for name, classes in CLASSES.items():
+            module = importlib.import_module("mendsontime." + name)
+            for own, members in classes.items():
+                made = getattr(module, own)
+                self.assertEqual(made.__module__, module.__name__)
+                for member, form in members.items():
+                    with self.subTest(module=name, owner=own, member=member):
+                        held = vars(made)[member]
+                        if form == "property":
+                            self.assertIsInstance(held, property)
+                        elif form is not None:
+                            self.assertEqual(str(inspect.signature(held)), form)
+
+
+if __name__ == "__main__":
+    unittest.main()
