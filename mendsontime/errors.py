@@ -110,11 +110,16 @@ def check_row_up_to(row, size, most, argument):
     return check_entries(row, size, argument)
 
 
-def check_matrix(rows, size, high, width, argument, *, exact=True):
-    """Return a copy of a matrix; without `exact` it may have fewer rows."""
+def check_shape(rows, high, width, argument, *, exact):
+    """Check a list of lists of exactly that width; the entries may be anything."""
     check_list(rows, high, argument, exact=exact)
     for row in rows:
         check_list(row, width, argument, exact=True)
+
+
+def check_matrix(rows, size, high, width, argument, *, exact=True):
+    """Return a copy of a matrix; without `exact` it may have fewer rows."""
+    check_shape(rows, high, width, argument, exact=exact)
     return [check_entries(row, size, argument) for row in rows]
 
 

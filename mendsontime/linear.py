@@ -36,7 +36,8 @@ def combine_rows(field, width, rows, factors):
     """The sum of factor times row, all zeros without rows."""
     total = [0] * width
     for factor, row in zip(factors, rows):
-        total = add_rows(field, total, scale_row(field, factor, row))
+        if factor != 0:
+            total = add_rows(field, total, scale_row(field, factor, row))
     return total
 
 
@@ -84,18 +85,27 @@ def with_remainder(field, pairs, rest):
     """The pairs of the reduced form with one more row, a remainder that is not all zero."""
     place = first_place(rest)
     fresh = scale_row(field, field.inverses[rest[place]], rest)
-    cleared = [(at, take_away(field, row, row[place], fresh)) for at, row in pairs]
+    cleared = [(at, row if row[place] == 0 else take_away(field, row, row[place], fresh)) for at, row in pairs]
     return sorted(cleared + [(place, fresh)], key=lambda pair: pair[0])
 
 
-def reduced_pairs(field, rows):
-    """The reduced form of the rows, as ascending pairs of a pivot and its row."""
-    pairs = []
+def with_rows(field, pairs, rows):
+    """The pairs of the reduced form with more rows."""
     for row in rows:
         rest = remainder_of(field, pairs, row)
         if first_place(rest) is not None:
             pairs = with_remainder(field, pairs, rest)
     return pairs
+
+
+def reduced_pairs(field, rows):
+    """The reduced form of the rows, as ascending pairs of a pivot and its row."""
+    return with_rows(field, [], rows)
+
+
+def unit_places(pairs):
+    """The ascending list of the places whose unit rows are combinations of the reduced rows."""
+    return [place for place, row in pairs if row.count(0) == len(row) - 1]
 
 
 def free_places(width, pairs):
@@ -112,14 +122,26 @@ def null_row_at(field, width, pairs, free):
     return null_row
 
 
-def find_factors(field, width, rows, goal):
-    """The one form of factors of the goal, 0 at rows that are no base rows, or None."""
+def null_row_against(field, width, pairs, goal):
+    """The barrier against the goal, or None if the goal is a combination of the reduced rows."""
+    first = first_place(remainder_of(field, pairs, goal))
+    if first is None:
+        return None
+    return null_row_at(field, width, pairs, first)
+
+
+def find_all_factors(field, width, rows, goals):
+    """For each goal its one form of factors, 0 at rows that are no base rows; None if a goal has none."""
     # The base rows are the pivots of the turned matrix, so its reduced form has just these factors.
     many = len(rows)
-    stack = [column + [value] for column, value in zip(columns_of(width, rows), goal)]
-    factors = [0] * many
-    for place, row in reduced_pairs(field, stack):
-        if place == many:
-            return None
-        factors[place] = row[many]
-    return factors
+    pairs = reduced_pairs(field, join_rows(columns_of(width, rows), columns_of(width, goals)))
+    if any([place >= many for place, _ in pairs]):
+        return None
+    values = {place: row[many:] for place, row in pairs}
+    return [[values[place][at] if place in values else 0 for place in range(many)] for at in range(len(goals))]
+
+
+def find_factors(field, width, rows, goal):
+    """The one form of factors of the goal, or None if it is no combination."""
+    found = find_all_factors(field, width, rows, [goal])
+    return None if found is None else found[0]

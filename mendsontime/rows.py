@@ -1,7 +1,7 @@
 """Rows and matrices over a field, with checks of what is passed."""
 
 from mendsontime.errors import (
-    BadShape, check_element, check_list, check_matrix, check_number, check_row, check_row_up_to,
+    BadShape, check_element, check_list, check_matrix, check_number, check_row, check_row_up_to, check_shape,
 )
 from mendsontime.linear import (
     add_rows, columns_of, combine_rows, join_rows, scale_row, sum_of_products, unit_row,
@@ -63,9 +63,7 @@ def product_rows(field, inner, width, a, b):
 def turned(width, rows):
     """The list of the columns; the entries may be anything."""
     check_number(width, 0, MOST, "width")
-    check_list(rows, MOST, "rows", exact=False)
-    for row in rows:
-        check_list(row, width, "rows", exact=True)
+    check_shape(rows, MOST, width, "rows", exact=False)
     return columns_of(width, rows)
 
 

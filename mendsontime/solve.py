@@ -2,8 +2,8 @@
 
 from mendsontime.errors import Clash, check_element, check_matrix, check_number, check_row, is_row
 from mendsontime.linear import (
-    columns_of, combine_rows, find_factors, first_place, free_places, null_row_at, reduced_pairs, remainder_of,
-    sum_of_products, with_remainder,
+    columns_of, combine_rows, find_factors, first_place, free_places, null_row_against, null_row_at, reduced_pairs,
+    remainder_of, sum_of_products, with_remainder,
 )
 
 MOST = 200
@@ -53,11 +53,7 @@ def barrier_for(field, width, rows, goal):
     """The barrier against the goal, or None if it is a combination."""
     matrix = check_rows(field, width, rows)
     aim = check_row(goal, field.size, width, "goal")
-    pairs = reduced_pairs(field, matrix)
-    first = first_place(remainder_of(field, pairs, aim))
-    if first is None:
-        return None
-    return null_row_at(field, width, pairs, first)
+    return null_row_against(field, width, reduced_pairs(field, matrix), aim)
 
 
 def solve_or_bar(field, width, rows, goal):

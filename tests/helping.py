@@ -250,3 +250,98 @@ class Numbers:
 
     def matrix(self, size, high, width):
         return [self.row(size, width) for _ in range(high)]
+
+
+def check_same(case, answer, due):
+    """The answer is equal to the due one and of the same kinds through all levels."""
+    case.assertTrue(alike(answer, due), f"{repr(answer)[:200]} is not {repr(due)[:200]}")
+
+
+def plain_signs(code, rows, beat):
+    """The signs of a beat, by the taps and the field's own methods."""
+    field, total = code.field, [0] * code.signs
+    for delay in range(min(beat, code.memory) + 1):
+        tap = code.tap(delay)
+        letters = rows[beat - delay] if beat - delay < len(rows) else [0] * code.letters
+        for letter, entries in zip(letters, tap, strict=True):
+            total = [field.plus(x, field.times(letter, y)) for x, y in zip(total, entries)]
+    return total
+
+
+def plain_heard(code, rows, pattern):
+    """The heard rows of a stream, by the taps."""
+    return [None if flag else plain_signs(code, rows, beat) for beat, flag in enumerate(pattern)]
+
+
+def all_streams(size, letters, beats):
+    """All streams of so many letter rows."""
+    return list(all_matrices(size, beats, letters))
+
+
+def some_pattern(numbers, rule, beats):
+    """A pattern that keeps the rule."""
+    pattern, state = [], rule.first_state()
+    for _ in range(beats):
+        lost = int(numbers.below(5) < 3 and rule.after(state, 1) is not None)
+        pattern.append(lost)
+        state = rule.after(state, lost)
+    return pattern
+
+
+def moved(matrix, size):
+    """Another list of the same shape with one entry changed."""
+    return [[(entry + 1) % size if (i, j) == (0, 0) else entry for j, entry in enumerate(row)]
+            for i, row in enumerate(matrix)]
+
+
+class Steps:
+    """A rule of the test's own, with no more than what rules of all classes have: a state for each beat."""
+
+    def __init__(self, beats, lost_at=()):
+        self.beats = beats
+        self.lost_at = lost_at
+
+    def first_state(self):
+        return (0, 0)
+
+    def after(self, state, lost):
+        if lost and state[0] not in self.lost_at:
+            return None
+        return (min(state[0] + 1, self.beats), lost)
+
+    def __contains__(self, pattern):
+        state = self.first_state()
+        for lost in pattern:
+            state = None if state is None else self.after(state, lost)
+        return state is not None
+
+
+class Ladder:
+    """A rule with a state for each number of beats, whose last state breaks or stays."""
+
+    def __init__(self, length, breaks):
+        self.length = length
+        self.breaks = breaks
+
+    def first_state(self):
+        return 0
+
+    def after(self, state, lost):
+        if lost and self.breaks and state == self.length:
+            return None
+        return min(state + 1, self.length) if lost else 0
+
+
+class Chain:
+    """A rule with a state for each beat up to a last one; only there a beat may be lost."""
+
+    def __init__(self, beats):
+        self.beats = beats
+
+    def first_state(self):
+        return 0
+
+    def after(self, state, lost):
+        if lost:
+            return self.beats if state == self.beats - 1 else None
+        return 0 if state == self.beats else min(state + 1, self.beats - 1)
