@@ -74,6 +74,63 @@ FUNCTIONS = {
         "pattern_text": "(pattern)",
         "read_pattern": "(text)",
     },
+    "machine": {
+        "count_patterns": "(rule, beats)",
+        "all_patterns": "(rule, beats)",
+        "fewest_heard": "(rule, beats)",
+        "fewest_pattern": "(rule, beats)",
+        "separating": "(rule, other, *, bound=400)",
+        "within_paper": "(rule, other, *, bound=400)",
+        "is_within": "(rule, other, paper)",
+        "same_patterns": "(rule, other, *, bound=400)",
+    },
+    "timecode": {
+        "encode_rows": "(code, rows, *, tail=0)",
+        "heard_rows": "(code, sent, pattern)",
+        "pattern_of": "(heard)",
+    },
+    "slant": {
+        "slant_code": "(field, letters, checks, matrix)",
+        "slant_word": "(width, heard, start)",
+        "mend_slants": "(field, letters, checks, matrix, heard)",
+    },
+    "burstmake": {
+        "can_make": "(letters, signs, burst, delay)",
+        "base_code": "(field, burst, delay)",
+        "copies_code": "(field, letters, burst, delay, *, signs=None)",
+        "mend_layers": "(making, heard)",
+    },
+    "bar": {
+        "share_of": "(letters, signs)",
+        "share_at_most": "(share, other)",
+        "best_share": "(burst, delay)",
+        "round_counts": "(letters, signs, burst, delay, beats)",
+        "bar_paper": "(letters, signs, burst, delay)",
+        "is_bar_paper": "(letters, signs, burst, delay, paper)",
+    },
+    "reason": {
+        "determined": "(code, pattern)",
+        "told_beats": "(code, pattern)",
+        "mends": "(code, delay, pattern)",
+        "reason_for": "(code, pattern, beat, place)",
+        "is_reason": "(code, pattern, beat, place, paper)",
+        "silence_for": "(code, pattern, beat, place)",
+        "is_silence": "(code, pattern, beat, place, paper)",
+    },
+    "judge": {
+        "know_first": "(code, delay)",
+        "know_after": "(code, delay, known, lost)",
+        "stack_of": "(code, delay, known, lost)",
+        "yes_table": "(code, rule, delay, *, bound=400)",
+        "is_yes": "(code, rule, delay, paper)",
+    },
+    "shortest": {
+        "shortest_failure": "(code, rule, delay, *, bound=400)",
+        "is_failure": "(code, rule, delay, paper)",
+        "failure_by_all": "(code, rule, delay, beats)",
+        "judged": "(code, rule, delay, *, bound=400)",
+        "is_judged": "(code, rule, delay, paper)",
+    },
 }
 
 CLASSES = {
@@ -105,6 +162,41 @@ CLASSES = {
         "System": {
             "__init__": "(self, field, width)", "learn": "(self, row, value)", "value_of": "(self, goal)",
             "__contains__": None, "rank": "property", "facts": "(self)",
+        },
+    },
+    "rules": {
+        "BurstRule": {
+            "__init__": "(self, burst, gap)", "burst": "property", "gap": "property", "first_state": "(self)",
+            "after": "(self, state, lost)", "first_break": "(self, pattern)", "__contains__": None, "__eq__": None,
+        },
+        "WindowRule": {
+            "__init__": "(self, window, burst, few)", "window": "property", "burst": "property", "few": "property",
+            "first_state": "(self)", "after": "(self, state, lost)", "first_break": "(self, pattern)",
+            "__contains__": None, "__eq__": None,
+        },
+    },
+    "machine": {
+        "Machine": {
+            "__init__": "(self, rule, *, bound=64)", "states": "(self)", "many": "property",
+            "place_of": "(self, state)", "__iter__": None,
+        },
+    },
+    "timecode": {
+        "TimeCode": {
+            "__init__": "(self, field, letters, signs, taps)", "field": "property", "letters": "property",
+            "signs": "property", "memory": "property", "plain": "property", "tap": "(self, delay)",
+            "row_at": "(self, rows, beat)", "fact_rows": "(self, span)", "__eq__": None,
+        },
+        "Encoder": {
+            "__init__": "(self, code)", "push": "(self, letters)", "__call__": "(self, letters)",
+            "rest": "(self, tail)", "beat": "property",
+        },
+    },
+    "burstmake": {
+        "Making": {
+            "__init__": "(self, field, letters, signs, burst, delay)", "field": "property", "letters": "property",
+            "signs": "property", "burst": "property", "delay": "property", "multiple": "property",
+            "code": "property",
         },
     },
 }
