@@ -44,39 +44,49 @@ def letters_due(letters, delay, beats):
     return letters * max(0, beats - delay)
 
 
-def counts_of(letters, signs, burst, delay, beats):
-    """The letters due and the signs heard in the first beats of the round pattern."""
-    rounds, left = divmod(beats, burst + delay)
-    heard = rounds * delay + max(0, left - burst)
-    return (letters_due(letters, delay, beats), signs * heard)
+def heard_in_round(lost, heard, beats):
+    """The number of heard beats in the first beats of a round pattern."""
+    rounds, left = divmod(beats, lost + heard)
+    return rounds * heard + max(0, left - lost)
+
+
+def shortest_bar(letters, signs, lost, heard, delay):
+    """The certificate of the shortest round pattern with more letters due than signs heard, or None."""
+    # If no round pattern of at most so many beats has more letters due than signs heard, none has.
+    most = (letters * delay + 1) * (lost + heard)
+    for beats in range(most + 1):
+        due = letters_due(letters, delay, beats)
+        told = signs * heard_in_round(lost, heard, beats)
+        if due > told:
+            return (round_pattern(lost, heard, beats), due, told)
+    return None
 
 
 def round_counts(letters, signs, burst, delay, beats):
     """The letters due and the signs heard in the round pattern of so many beats."""
     check_setting(letters, signs, burst, delay)
     check_number(beats, 0, MOST_BEATS, "beats")
-    return counts_of(letters, signs, burst, delay, beats)
+    return (letters_due(letters, delay, beats), signs * heard_in_round(burst, delay, beats))
 
 
 def bar_paper(letters, signs, burst, delay):
     """The bar certificate of the shortest round pattern, or None."""
     check_setting(letters, signs, burst, delay)
-    # If no round pattern of at most so many beats has more letters due than signs heard, none has.
-    most = (letters * delay + 1) * (delay + burst)
-    for beats in range(most + 1):
-        due, heard = counts_of(letters, signs, burst, delay, beats)
-        if due > heard:
-            return (round_pattern(burst, delay, beats), due, heard)
-    return None
+    return shortest_bar(letters, signs, burst, delay, delay)
 
 
 def is_bar_paper(letters, signs, burst, delay, paper):
     """Tell whether the paper is a bar certificate of the setting, of a round pattern or of another one."""
     check_setting(letters, signs, burst, delay)
+    return is_counted(letters, signs, BurstRule(burst, delay), delay, paper)
+
+
+def is_counted(letters, signs, rule, delay, paper):
+    """Tell whether the paper has a pattern of the rule and its counts, with more letters due than signs heard."""
     if not is_tuple(paper, 3):
         return False
     pattern, due, heard = paper
-    if not is_pattern(pattern, 0, MOST_BEATS) or pattern not in BurstRule(burst, delay):
+    if not is_pattern(pattern, 0, MOST_BEATS) or pattern not in rule:
         return False
     if type(due) is not int or type(heard) is not int:
         return False

@@ -85,6 +85,13 @@ def check_element(value, size, argument):
     return value
 
 
+def check_boolean(value, argument):
+    """Return the value, True or False."""
+    if type(value) is not bool:
+        raise BadNumber(argument)
+    return value
+
+
 def check_list(value, most, argument, *, exact):
     """Check a list of at most, or exactly, so many entries of any kind."""
     if type(value) is not list or len(value) > most:
@@ -96,6 +103,21 @@ def check_list(value, most, argument, *, exact):
 def check_entries(row, size, argument):
     """Return a copy of a list whose entries are all elements."""
     return [check_element(entry, size, argument) for entry in row]
+
+
+def check_list_from(value, least, most, argument):
+    """Check a list of at least and at most so many entries of any kind."""
+    check_list(value, most, argument, exact=False)
+    if len(value) < least:
+        raise BadShape(argument)
+
+
+def check_tuples(value, least, most, width, argument):
+    """Check a list of at least and at most so many tuples of that width; the entries may be anything."""
+    check_list_from(value, least, most, argument)
+    for entry in value:
+        if type(entry) is not tuple or len(entry) != width:
+            raise BadShape(argument)
 
 
 def check_row(row, size, length, argument):

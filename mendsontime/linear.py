@@ -2,7 +2,11 @@
 
 What is passed here is right already: a Field, and lists of its elements of
 fitting lengths. No function changes a list that it is passed.
+
+An equation is a row with the value of its sum of products behind it.
 """
+
+from mendsontime.errors import Clash
 
 
 def add_rows(field, a, b):
@@ -101,6 +105,27 @@ def with_rows(field, pairs, rows):
 def reduced_pairs(field, rows):
     """The reduced form of the rows, as ascending pairs of a pivot and its row."""
     return with_rows(field, [], rows)
+
+
+def with_equation(field, pairs, equation, moment):
+    """The pairs of reduced equations with one more equation, which clashes if another value follows."""
+    rest = remainder_of(field, pairs, equation)
+    first = first_place(rest)
+    if first == len(equation) - 1:
+        raise Clash(moment)
+    return pairs if first is None else with_remainder(field, pairs, rest)
+
+
+def with_equations(field, pairs, equations, moment):
+    """The pairs of reduced equations with more equations."""
+    for equation in equations:
+        pairs = with_equation(field, pairs, equation, moment)
+    return pairs
+
+
+def values_of(pairs):
+    """The places of the unknowns that reduced equations determine, with their values."""
+    return {place: row[-1] for place, row in pairs if row[:-1].count(0) == len(row) - 2}
 
 
 def unit_places(pairs):

@@ -1,6 +1,6 @@
 """Polynomials over a field."""
 
-from mendsontime.errors import BadShape, NoInverse, check_element, check_entries, check_list, check_row_up_to
+from mendsontime.errors import BadShape, NoInverse, check_element, check_entries, check_row_up_to, check_tuples
 from mendsontime.field import Field
 from mendsontime.linear import add_rows, all_rows, scale_row
 
@@ -174,10 +174,7 @@ def poly_through(field, points):
 
 def check_points(field, points):
     """Check the points of `poly_through`."""
-    check_list(points, MOST_POINTS, "points", exact=False)
-    for point in points:
-        if type(point) is not tuple or len(point) != 2:
-            raise BadShape("points")
+    check_tuples(points, 0, MOST_POINTS, 2, "points")
     for point in points:
         check_entries(point, field.size, "points")
     if len(set([x for x, _ in points])) < len(points):

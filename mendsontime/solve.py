@@ -1,9 +1,9 @@
 """Solving of rows: reduced forms, factors, barriers, and systems of equations."""
 
-from mendsontime.errors import Clash, check_element, check_matrix, check_number, check_row, is_row
+from mendsontime.errors import check_element, check_matrix, check_number, check_row, is_row
 from mendsontime.linear import (
     columns_of, combine_rows, find_factors, first_place, free_places, null_row_against, null_row_at, reduced_pairs,
-    remainder_of, sum_of_products, with_remainder,
+    remainder_of, sum_of_products, with_equation,
 )
 
 MOST = 200
@@ -114,14 +114,10 @@ class System:
         """Take an equation; tell whether its row was new."""
         checked = check_row(row, self._field.size, self._width, "row")
         check_element(value, self._field.size, "value")
-        rest = remainder_of(self._field, self._pairs, checked + [value])
-        first = first_place(rest)
-        if first == self._width:
-            raise Clash(self._answered)
-        if first is not None:
-            self._pairs = with_remainder(self._field, self._pairs, rest)
+        known = self.rank
+        self._pairs = with_equation(self._field, self._pairs, checked + [value], self._answered)
         self._answered += 1
-        return first is not None
+        return self.rank > known
 
     def value_of(self, goal):
         """The value that follows for the goal, or None."""

@@ -1,7 +1,7 @@
 """Codes in time: letters and signs beat by beat, through taps that reach back."""
 
 from mendsontime.errors import (
-    BadShape, check_entries, check_list, check_matrix, check_number, check_pattern, check_row, check_shape,
+    check_entries, check_list, check_list_from, check_matrix, check_number, check_pattern, check_row, check_shape,
 )
 from mendsontime.linear import add_rows, combine_rows, first_place, unit_row
 
@@ -78,9 +78,7 @@ class TimeCode:
 
 def checked_taps(taps, size, letters, signs):
     """Return a copy of the taps; the shape of all of them goes ahead of every entry."""
-    check_list(taps, MOST_TAPS, "taps", exact=False)
-    if len(taps) == 0:
-        raise BadShape("taps")
+    check_list_from(taps, 1, MOST_TAPS, "taps")
     for tap in taps:
         check_shape(tap, letters, signs, "taps", exact=True)
     return [[check_entries(row, size, "taps") for row in tap] for tap in taps]

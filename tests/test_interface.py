@@ -131,6 +131,33 @@ FUNCTIONS = {
         "judged": "(code, rule, delay, *, bound=400)",
         "is_judged": "(code, rule, delay, paper)",
     },
+    "mender": {
+        "run_mender": "(code, delay, heard, *, tail=0)",
+        "plain_log": "(code, delay, heard, *, tail=0)",
+        "is_log": "(code, delay, heard, tail, paper)",
+    },
+    "mixed": {
+        "mixed_share": "(window, burst, few)",
+        "few_code": "(field, window, lost)",
+        "mixed_code": "(field, window, burst, few)",
+        "mixed_bar_paper": "(letters, signs, window, burst, few, delay)",
+        "is_mixed_bar_paper": "(letters, signs, window, burst, few, delay, paper)",
+    },
+    "relay": {
+        "deals": "(bursts, total)",
+        "deal_share": "(bursts, delays)",
+        "best_deal": "(bursts, total)",
+        "best_by_all": "(bursts, total)",
+        "is_best_deal": "(bursts, total, paper)",
+        "run_chain": "(codes, delays, rows, patterns)",
+    },
+    "frames": {
+        "frame_mark": "(beat, row)",
+        "frame_text": "(frame)",
+        "read_frame": "(text, size, signs)",
+        "deliver": "(texts, arrivals, ticks)",
+        "send_all": "(code, delay, rows)",
+    },
 }
 
 CLASSES = {
@@ -197,6 +224,18 @@ CLASSES = {
             "__init__": "(self, field, letters, signs, burst, delay)", "field": "property", "letters": "property",
             "signs": "property", "burst": "property", "delay": "property", "multiple": "property",
             "code": "property",
+        },
+    },
+    "mender": {
+        "Mender": {
+            "__init__": "(self, code, delay)", "hear": "(self, signs, *, tail=False)", "lose": "(self, *, tail=False)",
+            "beat": "property", "log": "(self)", "__iter__": None, "mended": "(self)", "open_letters": "(self)",
+        },
+    },
+    "frames": {
+        "Sender": {
+            "__init__": "(self, code, delay, *, beats)", "push": "(self, letters)", "finish": "(self)",
+            "beat": "property",
         },
     },
 }
