@@ -2,7 +2,7 @@
 
 from itertools import combinations
 
-from mendsontime.errors import TooLarge, check_matrix, check_number, check_pattern, check_row, is_row
+from mendsontime.errors import check_matrix, check_number, check_pattern, check_row, check_rows_count, is_row
 from mendsontime.linear import (
     all_rows, columns_of, combine_rows, find_factors, join_rows, reduced_pairs, sum_of_products, unit_row,
 )
@@ -24,19 +24,10 @@ def encode_block(field, width, rows, letters):
     return combine_rows(field, width, matrix, factors)
 
 
-def check_word_count(field, many):
-    """Refuse a code of so many letters that has more words than are listed."""
-    words = 1
-    for _ in range(many):
-        words = words * field.size
-    if words > MOST_WORDS:
-        raise TooLarge(MOST_WORDS)
-
-
 def block_words(field, width, rows):
     """The signs of all letter rows, the letter rows ascending."""
     matrix = check_code(field, width, rows)
-    check_word_count(field, len(matrix))
+    check_rows_count(field.size, len(matrix), MOST_WORDS)
     return [combine_rows(field, width, matrix, letters) for letters in all_rows(field.size, len(matrix))]
 
 

@@ -100,6 +100,15 @@ def check_list(value, most, argument, *, exact):
         raise BadShape(argument)
 
 
+def check_rows_count(size, length, most):
+    """Refuse more rows than `most` over a field of that size, all of that length."""
+    many = 1
+    for _ in range(length):
+        many = many * size
+    if many > most:
+        raise TooLarge(most)
+
+
 def check_entries(row, size, argument):
     """Return a copy of a list whose entries are all elements."""
     return [check_element(entry, size, argument) for entry in row]

@@ -31,3 +31,8 @@ def read_row(word, most_many, most):
 def row_text(row):
     """The numbers joined by dots."""
     return ".".join([str(number) for number in row])
+
+
+def value_text(value):
+    """The number of a value, or the sign for None."""
+    return "-" if value is None else str(value)

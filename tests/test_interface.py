@@ -158,6 +158,31 @@ FUNCTIONS = {
         "deliver": "(texts, arrivals, ticks)",
         "send_all": "(code, delay, rows)",
     },
+    "listener": {"play_line": "(code, delay, rows, arrivals, *, slack=0)"},
+    "switch": {
+        "plan_spans": "(plan)",
+        "plan_rule": "(plan, rules)",
+        "plan_signs": "(plan, rows)",
+        "run_plan": "(plan, rows, pattern)",
+    },
+    "settle": {
+        "most_letters": "(signs, burst, delay)",
+        "settle": "(field, letters, signs, burst, delay)",
+        "is_settled": "(field, letters, signs, burst, delay, paper)",
+        "least_delay": "(code, rule)",
+        "greatest_burst": "(code, delay)",
+        "all_codes": "(field, letters, signs, memory)",
+        "codes_that_mend": "(field, letters, signs, memory, rule, delay)",
+    },
+    "papers": {
+        "code_text": "(code)",
+        "read_code": "(text)",
+        "stream_text": "(rows)",
+        "read_stream": "(text)",
+        "log_text": "(log)",
+        "read_log": "(text)",
+    },
+    "script": {"run_script": "(text)"},
 }
 
 CLASSES = {
@@ -237,6 +262,21 @@ CLASSES = {
             "__init__": "(self, code, delay, *, beats)", "push": "(self, letters)", "finish": "(self)",
             "beat": "property",
         },
+    },
+    "listener": {
+        "Listener": {
+            "__init__": "(self, code, delay, *, beats, slack=0)", "take": "(self, text)", "tick": "(self)",
+            "clock": "property", "settled": "(self)", "played": "(self)", "counts": "(self)",
+        },
+    },
+    "switch": {
+        "PlanRule": {
+            "__init__": "(self, parts)", "first_state": "(self)", "after": "(self, state, lost)",
+            "first_break": "(self, pattern)", "__contains__": None, "__eq__": None, "beats": "property",
+        },
+    },
+    "script": {
+        "Desk": {"__init__": "(self)", "do": "(self, line)", "reports": "(self)", "__iter__": None},
     },
 }
 
