@@ -101,7 +101,6 @@ def play_line(code, delay, rows, arrivals, *, slack=0):
     """The rows that a listener plays when these rows are sent and their frames arrive so."""
     texts = send_all(code, delay, rows)
     check_arrivals(arrivals, len(texts))
-    check_number(slack, 0, MOST_SLACK, "slack")
     listener = Listener(code, delay, beats=len(rows), slack=slack)
     for coming in deliver(texts, arrivals, len(texts) + slack):
         for text in coming:

@@ -9,7 +9,6 @@ from mendsontime.linear import all_rows
 from mendsontime.rules import BurstRule
 from mendsontime.timecode import TimeCode
 
-MOST_SIGNS = 8
 MOST_BURST = 8
 MOST_MULTIPLE = 12
 MOST_BOUND = 400
@@ -21,9 +20,7 @@ MOST_CODES = 256
 
 def most_letters(signs, burst, delay):
     """The greatest number of letters for which the setting can be made."""
-    check_number(signs, 1, MOST_SIGNS, "signs")
-    check_number(burst, 0, MOST_BURST, "burst")
-    check_number(delay, 1, MOST_DELAY, "delay")
+    check_setting(0, signs, burst, delay)
     return max([letters for letters in range(signs + 1) if can_make(letters, signs, burst, delay)])
 
 

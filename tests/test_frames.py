@@ -289,6 +289,8 @@ class Senders(unittest.TestCase):
         good = {"code": self.code, "delay": 2, "rows": self.rows}
         check_errors(self, send_all, good, {"delay": bad_numbers(1, 6), "rows": bad_matrices(3, self.rows, most=54)})
         check_same(self, check_answer(self, send_all, good), due_texts(self.code, 2, self.rows))
+        for delay in range(1, 7):
+            check_same(self, send_all(self.code, delay, self.rows), due_texts(self.code, delay, self.rows))
         for size in SIZES:
             code = base_code(Field(size), 2, 3)
             rows = Numbers(size).matrix(size, 7, 3)

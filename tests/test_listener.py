@@ -268,6 +268,16 @@ class Lines(unittest.TestCase):
                    for beat, row in enumerate(listener.played())]
             check_same(self, listener.played(), due)
 
+    def test_without_a_slack(self):
+        clear = TimeCode(Field(3), 1, 1, [[[1]]])
+        for slack, due in ((0, [[1], [None]]), (1, [[1], [2]])):
+            arrivals = [[0], [2], []]
+            check_same(self, play_line(clear, 1, [[1], [2]], arrivals, slack=slack), due)
+        check_same(self, play_line(clear, 1, [[1], [2]], arrivals), [[1], [None]])
+        listener = Listener(clear, 1, beats=2)
+        self.assertEqual(sum(1 for _ in range(3) if listener.tick()), 2)
+        check_error(self, Ended, None, listener.tick)
+
     def test_no_rows_at_all(self):
         code = base_code(Field(2), 1, 1)
         check_same(self, play_line(code, 6, [], [[] for _ in range(6)]), [])

@@ -227,6 +227,11 @@ class StreamTexts(unittest.TestCase):
             check_bad(self, read_stream, value, 1)
         for digits in (3, 4301):
             check_bad(self, read_stream, "1\n" + "1" * digits, 2)
+        # The last signs of a text make a bad line, the signs next to them no text at all.
+        for sign, line in ((" ", 2), ("~", 2), ("!", 2), ("}", 2), ("\x1f", 1), ("\x7f", 1)):
+            check_bad(self, read_stream, "1\n" + sign, line)
+            check_bad(self, read_log, "0 0 1 1\n" + sign, line)
+            check_bad(self, read_code, "code 2 1 1 0\n" + sign, line)
 
     def test_checks(self):
         rows = [[1, 10], [], [0]]

@@ -206,6 +206,16 @@ class Papers(unittest.TestCase):
             due = is_yes(code, BurstRule(1, 2), 2, changed)
             self.assertIs(is_settled(Field(3), *setting, ("code", 1, code, changed)), due)
 
+    def test_multiples(self):
+        # Without losses the plain code of any multiple mends; with 12 signs the multiple is 12 at the most.
+        field = Field(2)
+        for multiple in range(1, 13):
+            code = TimeCode(field, multiple, multiple, [[[int(i == j) for i in range(multiple)]
+                                                         for j in range(multiple)]])
+            table = yes_table(code, BurstRule(0, 1), 1)
+            for told in range(0, 14):
+                self.assertIs(is_settled(field, 1, 1, 0, 1, ("code", told, code, table)), told == multiple)
+
     def test_without_letters(self):
         field = Field(2)
         code = TimeCode(field, 0, 3, [[]])
@@ -237,6 +247,12 @@ class Delays(unittest.TestCase):
                           least_delay(code=base_code(Field(2), 2, 6), rule=BurstRule(2, 6)),
                           least_delay(TimeCode(Field(2), 1, 1, [[[1]]]), BurstRule(1, 1)),
                           least_delay(TimeCode(Field(2), 0, 1, [[]]), BurstRule(8, 1))], [3, 6, None, 1])
+
+    def test_letters_that_are_late(self):
+        # The only sign is the letter of so many beats ago.
+        for late in range(9):
+            code = TimeCode(Field(3), 1, 1, [[[0]]] * late + [[[1]]])
+            check_same(self, least_delay(code, BurstRule(0, 1)), max(1, late) if late <= 6 else None)
 
     def test_least_delay_too_large(self):
         with self.assertRaises(TooLarge) as caught:

@@ -67,6 +67,35 @@ class Style(unittest.TestCase):
                             defined.update(target.id for target in other.targets)
                     self.assertLessEqual(names, defined, (path, node.module))
 
+    def test_no_file_imports_itself_through_others(self):
+        behind = {}
+        for path in files():
+            behind[path.stem] = [node.module.split(".")[1] for node in ast.walk(ast.parse(path.read_text()))
+                                 if isinstance(node, ast.ImportFrom) and node.module.startswith("mendsontime.")]
+        for name in behind:
+            reached = list(behind[name])
+            for other in reached:
+                reached.extend(new for new in behind[other] if new not in reached)
+            self.assertNotIn(name, reached)
+
+    def test_names_of_methods_attributes_and_properties(self):
+        methods, properties, attributes = set(), set(), set()
+        for path in files():
+            for owner in ast.parse(path.read_text()).body:
+                if not isinstance(owner, ast.ClassDef):
+                    continue
+                for node in owner.body:
+                    if isinstance(node, ast.FunctionDef):
+                        (properties if node.decorator_list else methods).add(node.name)
+                for node in ast.walk(owner):
+                    if isinstance(node, ast.Attribute) and isinstance(node.ctx, ast.Store):
+                        attributes.add(node.attr)
+        self.assertFalse(methods & properties)
+        self.assertFalse(methods & attributes)
+        builtin = {name for kind in (str, bytes, int, list, tuple, dict, set) for name in dir(kind)}
+        self.assertFalse((properties | attributes) & builtin)
+        self.assertFalse({name for name in methods if not name.startswith("__")} & builtin)
+
     def test_every_import_is_used(self):
         for path in files():
             tree = ast.parse(path.read_text())
